@@ -1,11 +1,11 @@
 package xml
 
 import (
-	"strconv"
 	"strings"
 
 	"espalier/api"
 	"espalier/char"
+	"espalier/refs"
 )
 
 // reader reads a text from the front. It gives up by panic where it can't go on.
@@ -89,39 +89,10 @@ func (r *reader) name() string {
 
 // reference reads the rest of a reference: the character that it stands for.
 func (r *reader) reference() string {
-	body := r.upTo(";")
-	switch body {
-	case "lt":
-		return "<"
-	case "gt":
-		return ">"
-	case "amp":
-		return "&"
-	case "quot":
-		return `"`
-	case "apos":
-		return "'"
-	}
-	digits, ok := strings.CutPrefix(body, "#")
+	said, left, ok := refs.Cut(r.left)
 	if !ok {
 		r.fail()
 	}
-	base := 10
-	if hex, ok := strings.CutPrefix(digits, "x"); ok {
-		digits, base = hex, 16
-	}
-	return r.numbered(digits, base)
-}
-
-// numbered is the character of that number.
-func (r *reader) numbered(digits string, base int) string {
-	n, err := strconv.ParseUint(digits, base, 31)
-	if err != nil {
-		r.fail()
-	}
-	said, e := char.Text(int(n))
-	if e != api.OK {
-		r.fail()
-	}
+	r.left = left
 	return said
 }
