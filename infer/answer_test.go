@@ -93,7 +93,7 @@ func TestP152Grown(t *testing.T) {
 	answered := 0
 	s := stored(t)
 	all := samples(s)
-	for seed := range int64(20000) {
+	for seed := range int64(15000) {
 		g := &grower{Rand: rand.New(rand.NewSource(seed))}
 		var vars []api.Param
 		var p place
@@ -113,7 +113,7 @@ func TestP152Grown(t *testing.T) {
 			t.Fatalf("seed %d", seed)
 		}
 	}
-	if answered < 7000 {
+	if answered < 5500 {
 		t.Errorf("only %d answer", answered)
 	}
 }
