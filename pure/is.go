@@ -5,7 +5,7 @@ import (
 	"espalier/scope"
 )
 
-// safe tells whether an expression can mean no error, whatever its variables are.
+// safe tells whether an expression is such that it never means an error, whatever its variables are.
 func safe(e api.Expr) bool {
 	switch e.Op {
 	case api.Lit, api.Var:
